@@ -113,13 +113,8 @@ func (f *finder) named(name string, kind int) int {
 	return -1
 }
 
-func (f *finder) proctype(name string) int {
-	sym := f.named(name, api.SymProc)
-	if sym >= 0 && f.t[f.syms[sym].Node].Kind != api.MProc {
-		return -1
-	}
-	return sym
-}
+// proctype is the SymProc of a name: init and never are words, and so no names that are used.
+func (f *finder) proctype(name string) int { return f.named(name, api.SymProc) }
 
 func (f *finder) ownedBy(owner, kind int, name string) int {
 	if sym, there := f.owned[owned{kind, owner, name}]; there {

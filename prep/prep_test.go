@@ -155,6 +155,8 @@ func TestConditions(t *testing.T) {
 		"N >= N":                     "y",
 		"(2 || 0) == 1":              "y",
 		"(2 && 5) == 1":              "y",
+		"1 && 1":                     "y",
+		"1 && 0":                     "",
 		"0 && 0 || 1":                "y",
 		"1 || 1 && 0":                "y",
 		"(1 || 1) && 0":              "",
@@ -218,6 +220,11 @@ func TestManyMacros(t *testing.T) {
 		two + strings.Repeat("T ", 3000) + "\n#define F(a)\n" + x(2193) + " F(":   wrong(api.ErrPrep, len(two)+6000+14+2*2193),
 		two + x(2193) + strings.Repeat(" T", 3000):                                wrong(api.ErrMany, len(two)+2*2193+2*2999),
 	})
+	// What comes of one row is counted ahead of what is wrong behind that.
+	check(t, Macros, map[string]string{
+		two + "#define F(a)\n" + strings.Repeat("T ", 4000) + x(193) + " F(":  wrong(api.ErrMany, len(two)+13+8000+2*192),
+		two + "#define F(a)\n" + x(2193) + strings.Repeat(" T", 3000) + " F(": wrong(api.ErrMany, len(two)+13+2*2193+2*2999),
+	})
 	// A body of 4000 parameters, used with 3 tokens each.
 	body := strings.TrimSpace(strings.Repeat("a ", 4000))
 	check(t, Macros, map[string]string{
@@ -256,6 +263,7 @@ func TestInlines(t *testing.T) {
 		"x inline 3() { }":                             wrong(api.ErrPrep, 2),
 		"x inline p(a,a) { }":                          wrong(api.ErrPrep, 2),
 		"x inline p(a,) { }":                           wrong(api.ErrPrep, 2),
+		"x inline p(a)":                                wrong(api.ErrPrep, 2),
 		"x inline p(a) x":                              wrong(api.ErrPrep, 2),
 		"x inline p(a) { {":                            wrong(api.ErrPrep, 2),
 		"x inline p(a,b,c,d,e,f,g,h,i) { }":            wrong(api.ErrPrep, 2),
@@ -317,5 +325,41 @@ func TestRows(t *testing.T) {
 	far := []api.Token{{Kind: api.TMark, Text: "#"}, {Kind: api.TName, Text: "define"}, {Kind: api.TName, Text: "M", At: 1<<63 - 1}, {Kind: api.TMark, Text: "(", At: -1 << 63}, {Kind: api.TMark, Text: ")"}, {Kind: api.TName, Text: "M", Line: 1}, end}
 	if out, e, _ := Macros(far); e != api.OK || len(out) != 2 {
 		t.Errorf("error %d, %v", e, out)
+	}
+}
+
+// Names and marks are told by their Kind, too.
+func TestKinds(t *testing.T) {
+	name := func(s string) api.Token { return api.Token{Kind: api.TName, Text: s} }
+	mark := func(s string) api.Token { return api.Token{Kind: api.TMark, Text: s} }
+	text := func(s string) api.Token { return api.Token{Kind: api.TText, Text: s} }
+	end := api.Token{Kind: api.TEnd}
+	on := func(line int, l ...api.Token) []api.Token {
+		for i := range l {
+			l[i].Line = line
+		}
+		return l
+	}
+	l := append(on(1, mark("#"), name("define"), name("M"), mark("("), name("a"), mark(")"), name("a"), text("a")), on(2, text("M"), name("M"), mark("("), text(")"), text("("), mark(")"))...)
+	for i := range l {
+		l[i].At = i
+	}
+	// The ( stands right behind the name: that has one byte.
+	out, e, _ := Macros(append(l, end))
+	var words []string
+	for _, k := range out {
+		words = append(words, k.Text)
+	}
+	if got := strings.Join(words, " "); e != api.OK || got != "M ) ( a " {
+		t.Errorf("error %d, %q", e, got)
+	}
+	l = on(1, text("{"), name("inline"), name("p"), mark("("), mark(")"), mark("{"), text("}"), text("}"), mark("}"), text("p"), name("p"), mark("("), mark(")"))
+	out, e, _ = Inlines(append(l, end))
+	words = nil
+	for _, k := range out {
+		words = append(words, k.Text)
+	}
+	if got := strings.Join(words, " "); e != api.OK || got != "{ p { } } } " {
+		t.Errorf("error %d, %q", e, got)
 	}
 }

@@ -73,6 +73,7 @@ func TestSteps(t *testing.T) {
 		"if :: d_step { if :: else fi } :: 1 fi":                "14 21",
 		"if :: { x; if :: else fi } :: 1 fi":                    "",
 		"if :: for (x : 1 .. 2) { if :: else fi } :: 1 fi":      "",
+		"if :: byte y fi; if :: xr x :: else fi":                "",
 		"if :: L: x fi":                                         "14 6",
 		"if :: x; L: x fi":                                      "",
 		"if :: { L: x } fi":                                     "14 8",

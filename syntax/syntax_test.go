@@ -153,7 +153,7 @@ func TestWrong(t *testing.T) {
 		"active p() { 1 }": 7, "active [0] proctype p() { 1 }": 8, "active [256] proctype p() { 1 }": 8, "active [] proctype p() { 1 }": 8,
 		"proctype p { 1 }": 11, "proctype p(;) { 1 }": 11, "proctype p(byte x;;) { 1 }": 18, "proctype p() priority 0 { 1 }": 22, "proctype p() priority 256 { 1 }": 22,
 		"proctype p() provided x { 1 }": 22, "proctype p() provided () { 1 }": 23, "proctype p() 1": 13, "init(": 4, "never if { 1 }": 6, "never a priority 1 { 1 }": 8,
-		"init { ; }": 7, "init { a 1 }": 9, "init { a + b c }": 13, "init { {a} ) }": 11, "init { fi }": 7, "init { a; fi }": 10, "init { a :: b }": 9,
+		"init { ; }": 7, "init { a 1 }": 9, "init { a + b c }": 13, "init { {a} ) }": 11, "init { {a} \"x\" }": 11, "init { fi }": 7, "init { a; fi }": 10, "init { a :: b }": 9,
 		"init { if fi }": 10, "init { if :: fi }": 13, "init { if a fi }": 10, "init { if :: a od }": 15, "init { do :: a fi }": 15,
 		"init { for i : 1 .. 2 { a } }": 11, "init { for (i 1 .. 2) { a } }": 14, "init { for (i : 1 , 2) { a } }": 18, "init { for (i : 1 .. 2) a }": 24, "init { for (1 : 1 .. 2) { a } }": 12,
 		"init { select (i in a) }": 17, "init { atomic a }": 14, "init { goto 3 }": 12, "init { goto if }": 12, "init { printf(x) }": 14, "init { printf(\"a\" x) }": 18, "init { printm() }": 14, "init { assert }": 14,
