@@ -286,3 +286,146 @@ func TestStatements(t *testing.T) {
 		{"the first of two", 6, 0, func(m *api.Model) { way(t, *m, 1, api.SExpr).S.A = -1; way(t, *m, 0, api.SAssert).S.A = -1 }},
 	})
 }
+
+// P11.2: as much as there may be, and just one more.
+func TestMost(t *testing.T) {
+	byteType := api.Type{Bits: 8}
+	num := api.Expr{Op: api.XNum, A: -1, B: -1, C: -1}
+	add := func(m *api.Model, x api.Expr) int {
+		m.Exprs = append(m.Exprs, x)
+		return len(m.Exprs) - 1
+	}
+	variable := func(m *api.Model, scope, slot int, dims ...api.Dim) int {
+		for i := range dims {
+			dims[i].I = add(m, num)
+		}
+		return add(m, api.Expr{Op: api.XVar, A: -1, B: -1, C: -1, V: api.Var{Scope: scope, Slot: slot, Who: -1, Type: -1, Dims: dims}})
+	}
+	uses := func(scope, slot int, dims ...api.Dim) func(m *api.Model) {
+		return func(m *api.Model) { way(t, *m, 1, api.SExpr).S.A = variable(m, scope, slot, dims...) }
+	}
+	has := func(scope, slot int, dims ...api.Dim) func(m *api.Model) {
+		return func(m *api.Model) { variable(m, scope, slot, dims...) }
+	}
+	global := func(n int) func(m *api.Model) {
+		return func(m *api.Model) {
+			for len(m.Globals) < n {
+				m.Globals, m.Init = append(m.Globals, byteType), append(m.Init, 0)
+			}
+		}
+	}
+	fields := func(n int) func(m *api.Model) {
+		return func(m *api.Model) { m.Shapes[1].Fields = slices.Repeat([]api.Type{byteType}, n) }
+	}
+	number := func(v int64) func(m *api.Model) {
+		return func(m *api.Model) { x := num; x.N = v; add(m, x) }
+	}
+	poll := func(n int) func(m *api.Model) {
+		return func(m *api.Model) {
+			x := api.Expr{Op: api.XPoll, A: add(m, num), B: -1, C: -1}
+			for range n {
+				x.Args, x.Match = append(x.Args, add(m, num)), append(x.Match, 1)
+			}
+			add(m, x)
+		}
+	}
+	at := len(model(t).Exprs)
+	check(t, []change{
+		{"128 globals", 0, 0, global(128)}, {"129 globals", 1, -1, global(129)},
+		{"32 shapes", 0, 0, func(m *api.Model) { m.Shapes = slices.Repeat(m.Shapes[:1], 32) }}, {"32 channels", 0, 0, func(m *api.Model) { m.Chans = make([]int, 32) }}, {"a channel below 0", 2, 0, func(m *api.Model) { m.Chans[0] = -1 }},
+		{"room 16", 0, 0, func(m *api.Model) { m.Shapes[1].Room = 16 }}, {"8 fields", 0, 0, fields(8)}, {"1 field", 0, 0, fields(1)},
+		{"16 types", 0, 0, func(m *api.Model) {
+			for len(m.Procs) < 16 {
+				p := m.Procs[1]
+				p.Active = 0
+				m.Procs = append(m.Procs, p)
+			}
+		}},
+		{"4096 expressions", 0, 0, func(m *api.Model) { m.Exprs = append(m.Exprs, slices.Repeat([]api.Expr{num}, 4096-len(m.Exprs))...) }},
+		{"4097 expressions", 3, -1, func(m *api.Model) { m.Exprs = append(m.Exprs, slices.Repeat([]api.Expr{num}, 4097-len(m.Exprs))...) }},
+		{"greatest number", 0, 0, number(math.MaxInt32)}, {"least number", 0, 0, number(math.MinInt32)}, {"below that", 3, at, number(math.MinInt32 - 1)},
+		{"slot 128", 0, 0, has(api.Local, 128)}, {"slot 129", 3, at, has(api.Local, 129)}, {"scope below 0", 3, at, has(-1, 0)},
+		{"4 dims", 0, 0, has(api.Local, 0, make([]api.Dim, 4)[:0]...)}, {"great dims", 0, 0, has(api.Global, 0, api.Dim{Len: 128, Stride: 128}, api.Dim{Len: 1}, api.Dim{Len: 1}, api.Dim{Len: 1})}, {"5 dims", 3, at + 5, has(api.Global, 0, api.Dim{Len: 1}, api.Dim{Len: 1}, api.Dim{Len: 1}, api.Dim{Len: 1}, api.Dim{Len: 1})},
+		{"last global", 0, 0, uses(api.Global, 5)}, {"one more", 6, 1, uses(api.Global, 6)}, {"last local", 0, 0, uses(api.Local, 0)}, {"one more local", 6, 1, uses(api.Local, 1)}, {"last by index", 0, 0, uses(api.Global, 1, api.Dim{Len: 5, Stride: 1})}, {"one more by index", 6, 1, uses(api.Global, 1, api.Dim{Len: 6, Stride: 1})},
+		{"8 polled", 0, 0, poll(8)}, {"9 polled", 3, at + 10, poll(9)}, {"1 polled", 0, 0, poll(1)}, {"none polled", 3, at + 1, poll(0)},
+		{"match -1", 0, 0, func(m *api.Model) { m.Exprs[find(t, *m, op(api.XPoll))].Match[1] = -1 }}, {"match -2", 3, find(t, model(t), op(api.XPoll)), func(m *api.Model) { m.Exprs[find(t, *m, op(api.XPoll))].Match[1] = -2 }}, {"poll's N 1", 0, 0, func(m *api.Model) { m.Exprs[find(t, *m, op(api.XPoll))].N = 1 }}, {"poll's N -1", 3, find(t, model(t), op(api.XPoll)), func(m *api.Model) { m.Exprs[find(t, *m, op(api.XPoll))].N = -1 }},
+		{"run's arg", 3, find(t, model(t), op(api.XRun)), func(m *api.Model) { x := find(t, *m, op(api.XRun)); m.Exprs[x].Args[0] = x }},
+		{"run's arg twice", 3, find(t, model(t), op(api.XRun)), func(m *api.Model) { x := find(t, *m, op(api.XRun)); m.Exprs[x].Args[0] = m.Exprs[x].Args[1] }},
+		{"at's place below 0", 3, find(t, model(t), op(api.XAt)), func(m *api.Model) { m.Exprs[find(t, *m, op(api.XAt))].Args[0] = -1 }}, {"at's first place", 0, 0, func(m *api.Model) { m.Exprs[find(t, *m, op(api.XAt))].Args[0] = 0 }},
+		{"at's place too great", 3, find(t, model(t), op(api.XAt)), func(m *api.Model) { m.Exprs[find(t, *m, op(api.XAt))].Args[0] = len(m.Procs[0].Locs) }}, {"at's N below 0", 3, find(t, model(t), op(api.XAt)), func(m *api.Model) { m.Exprs[find(t, *m, op(api.XAt))].N = -1 }},
+		{"128 slots", 0, 0, func(m *api.Model) {
+			p := &m.Procs[1]
+			p.Frame, p.Init = slices.Repeat([]api.Type{byteType}, 128), make([]int64, 128)
+		}},
+		{"256 places", 0, 0, func(m *api.Model) { p := &m.Procs[1]; p.Locs = append(p.Locs, make([]api.Loc, 256-len(p.Locs))...) }}, {"257 places", 4, 1, func(m *api.Model) { p := &m.Procs[1]; p.Locs = append(p.Locs, make([]api.Loc, 257-len(p.Locs))...) }},
+		{"start below 0", 4, 1, func(m *api.Model) { m.Procs[1].Start = -1 }}, {"start", 4, 1, func(m *api.Model) { m.Procs[1].Start = len(m.Procs[1].Locs) }}, {"final below 0", 4, 1, func(m *api.Model) { m.Procs[1].Final = -1 }}, {"to below 0", 4, 1, func(m *api.Model) { m.Procs[1].Locs[0].Out[0].To = -1 }}, {"to 0", 0, 0, func(m *api.Model) { m.Procs[1].Locs[0].Out[0].To = 0 }},
+		{"an escape's to", 4, 1, func(m *api.Model) { m.Procs[1].Locs[0].Esc = [][]api.Trans{{{To: -1}}} }},
+		{"1024 ways", 0, 0, func(m *api.Model) { p := m.Procs[1]; p.Locs[0].Out = slices.Repeat(p.Locs[0].Out, 1024-ways(p)+1) }}, {"1025 ways", 4, 1, func(m *api.Model) { p := m.Procs[1]; p.Locs[0].Out = slices.Repeat(p.Locs[0].Out, 1024-ways(p)+2) }},
+		{"16 active", 0, 0, func(m *api.Model) { m.Procs[1].Active = 16 }}, {"prio 255", 0, 0, func(m *api.Model) { m.Procs[1].Prio = 255 }}, {"prio 1", 0, 0, func(m *api.Model) { m.Procs[1].Prio = 1 }}, {"provided 0", 0, 0, func(m *api.Model) { m.Procs[0].Provided = 0 }}, {"the last expression provided", 0, 0, func(m *api.Model) { m.Procs[0].Provided = add(m, num) }},
+		{"params as many as slots", 0, 0, func(m *api.Model) { m.Procs[1].Params = 1 }}, {"claim's params", 4, 2, func(m *api.Model) { m.Procs[2].Params = 1 }},
+		{"8 sent", 0, 0, func(m *api.Model) { s := &way(t, *m, 0, api.SSend).S; s.Args = slices.Repeat(s.Args[:1], 8) }}, {"send's N 1", 0, 0, func(m *api.Model) { way(t, *m, 0, api.SSend).S.N = 1 }}, {"receive's N 3", 0, 0, func(m *api.Model) { way(t, *m, 0, api.SRecv).S.N = 3 }}, {"chan's N 0", 0, 0, func(m *api.Model) { way(t, *m, 0, api.SChan).S.N = 0 }}, {"chan's N 1", 0, 0, func(m *api.Model) { way(t, *m, 0, api.SChan).S.N = 1 }}, {"A 0", 0, 0, func(m *api.Model) { way(t, *m, 0, api.SAssert).S.A = 0 }}, {"A below -1", 6, 0, func(m *api.Model) { way(t, *m, 0, api.SAssert).S.A = -2 }},
+		{"set's B too great", 6, 1, func(m *api.Model) { way(t, *m, 1, api.SSet).S.B = len(m.Exprs) }}, {"an argument too great", 6, 0, func(m *api.Model) { way(t, *m, 0, api.SPrint).S.Args[0] = len(m.Exprs) }}, {"the same expression in two ways", 0, 0, func(m *api.Model) { way(t, *m, 0, api.SAssert).S.A = way(t, *m, 0, api.SSet).S.A }},
+	})
+	one := api.Model{Claim: -1, Procs: []api.Proc{{Prio: 1, Provided: -1, Locs: make([]api.Loc, 1)}}}
+	if e, part, place := Check(one); e != api.OK || part != 0 || place != 0 {
+		t.Errorf("one proctype: error %d, %d, %d", e, part, place)
+	}
+	one.Procs[0].Prio = 0
+	if e, part, place := Check(one); e != api.ErrModel || part != 4 || place != 0 {
+		t.Errorf("one proctype: error %d, %d, %d", e, part, place)
+	}
+}
+
+func ways(p api.Proc) int {
+	n := 0
+	for _, l := range p.Locs {
+		n += len(l.Out)
+		for _, esc := range l.Esc {
+			n += len(esc)
+		}
+	}
+	return n
+}
+
+// P11.2: which parts each opcode has.
+func TestParts(t *testing.T) {
+	for op := 0; op <= 40; op++ {
+		parts := 0
+		switch {
+		case op == api.XIf:
+			parts = 3
+		case op >= api.XMul && op <= api.XEither:
+			parts = 2
+		case slices.Contains([]int{api.XNeg, api.XNot, api.XFlip, api.XLen, api.XFull, api.XEmpty, api.XNfull, api.XNempty, api.XPoll, api.XEnabled, api.XPc, api.XAt}, op):
+			parts = 1
+		}
+		for mask := range 8 {
+			m := api.Model{Claim: -1, Procs: []api.Proc{{Prio: 1, Provided: -1, Locs: make([]api.Loc, 1)}}}
+			for range 4 {
+				m.Exprs = append(m.Exprs, api.Expr{Op: api.XPid, A: -1, B: -1, C: -1})
+			}
+			abc := [3]int{-1, -1, -1}
+			for i := range abc {
+				if mask>>i&1 == 1 {
+					abc[i] = i
+				}
+			}
+			x := api.Expr{Op: op, A: abc[0], B: abc[1], C: abc[2], V: api.Var{Who: -1, Type: -1}}
+			switch op {
+			case api.XPoll:
+				x.Args, x.Match = []int{3}, []int{1}
+			case api.XAt:
+				x.Args = []int{0}
+			}
+			m.Exprs = append(m.Exprs, x)
+			e, part, place := Check(m)
+			if op >= 1 && op <= 39 && mask == 1<<parts-1 {
+				if e != api.OK {
+					t.Errorf("opcode %d, parts %b: error %d, %d, %d", op, mask, e, part, place)
+				}
+			} else if e != api.ErrModel || part != 3 || place != 4 {
+				t.Errorf("opcode %d, parts %b: error %d, %d, %d", op, mask, e, part, place)
+			}
+		}
+	}
+}
