@@ -99,3 +99,24 @@ func TestFind(t *testing.T) {
 		t.Error("no message")
 	}
 }
+
+// What is handed in is left as it is, its spare room too.
+func TestOwnMemory(t *testing.T) {
+	s := api.Shape{Room: 9, Fields: []api.Type{{Bits: 8}}}
+	l := []api.Message{{5}, {7}, {99}, {98}}
+	q := api.Chan{Queue: l[:2]}
+	for _, sorted := range []bool{false, true} {
+		c, _ := Put(s, q, api.Message{6}, sorted)
+		for _, m := range c.Queue {
+			m[0] = 1
+		}
+		if fmt.Sprint(l) != "[[5] [7] [99] [98]]" {
+			t.Fatalf("sorted %v: %v", sorted, l)
+		}
+	}
+	c, m, _ := Take(q, 0)
+	c.Queue[0][0], m[0] = 1, 1
+	if fmt.Sprint(l) != "[[5] [7] [99] [98]]" {
+		t.Errorf("%v", l)
+	}
+}

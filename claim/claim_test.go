@@ -33,13 +33,16 @@ func told(t *testing.T, m api.Model, s api.State) string {
 	for i, n := range l {
 		o := fmt.Sprint(n.Move.Pid, ".", n.Move.Way, " c", n.Move.Claim)
 		if n.Err != api.OK {
+			if n.Move.Pid == -1 && n.Move != (api.Move{Pid: -1, Esc: -1, Way: -1, With: -1, WithEsc: -1, WithWay: -1, Claim: n.Move.Claim}) {
+				t.Errorf("standing still: %v", n.Move)
+			}
 			if n.State.Procs != nil || n.State.Globals != nil {
 				t.Error("a state beside an error")
 			}
 			out = append(out, fmt.Sprint(o, " !", int(n.Err)))
 			continue
 		}
-		if n.Move.Pid == -1 && n.Move != still(n.Move.Claim) {
+		if n.Move.Pid == -1 && n.Move != (api.Move{Pid: -1, Esc: -1, Way: -1, With: -1, WithEsc: -1, WithWay: -1, Claim: n.Move.Claim}) {
 			t.Errorf("standing still: %v", n.Move)
 		}
 		out = append(out, fmt.Sprint(o, " ", n.State.Globals, ">", n.State.Claim))
@@ -230,5 +233,26 @@ func TestInput(t *testing.T) {
 	b, _ := step.Steps(m, s)
 	if fmt.Sprint(a) != fmt.Sprint(b) || len(a) != 2 {
 		t.Errorf("%v, %v", a, b)
+	}
+}
+
+// A claim that is the first proctype.
+func TestFirstClaim(t *testing.T) {
+	m, s := model(t, "never { accept: x; 0 } byte x = 1; active proctype p() { x = 0 }")
+	if m.Claim != 0 {
+		t.Fatalf("claim %d", m.Claim)
+	}
+	if got := told(t, m, s); got != "0.0 c0 [0]>1" {
+		t.Errorf("got %s", got)
+	}
+	if accepts, e := Accepts(m, s); !accepts || e != api.OK {
+		t.Errorf("error %d", e)
+	}
+	s.Claim = 2
+	if ended, e := Ended(m, s); !ended || e != api.OK {
+		t.Errorf("error %d", e)
+	}
+	if _, e := Np(m); e != api.ErrMode {
+		t.Errorf("error %d", e)
 	}
 }

@@ -105,7 +105,7 @@ func TestEnds(t *testing.T) {
 	if got := told(t, e); got != "-1 -1" {
 		t.Errorf("got %q", got)
 	}
-	for provided, want := range map[string]string{"x": "-1 0", "x == 2": "", "1 / y": "-1 -1!48"} {
+	for provided, want := range map[string]string{"x": "-1 0", "y": "", "x == 2": "", "1 / y": "-1 -1!48"} {
 		if got := told(t, first(t, "byte x = 1, y; active proctype p() provided ("+provided+") { 1 }")); got != want {
 			t.Errorf("%s: got %q", provided, got)
 		}
@@ -178,10 +178,13 @@ func TestRendezvous(t *testing.T) {
 		"z!1 unless z!2 | z?x":                      "0 0+1:-1 0",
 		"z!1 | o | z?x":                             "-1 0+2:-1 0",
 		"z!1":                                       "",
+		"z!1 | w?x":                                 "",
+		"if :: z!1 :: z?x fi":                       "",
+		"if :: z!1 :: z?x fi | if :: z!1 :: z?x fi": "-1 0+1:-1 1",
 		"z!1 | z?eval(_pid)":                        "-1 0+1:-1 0",
 		"z!o + o | z?eval(_pid) | z?eval(_pid)":     "-1 0+2:-1 0",
 	} {
-		src := "byte o = 1, n; chan z = [0] of { byte }; chan c[3]; "
+		src := "byte o = 1, n; chan z = [0] of { byte }; chan c[3]; chan w = [0] of { byte }; "
 		for i, body := range strings.Split(s, " | ") {
 			src += fmt.Sprintf("active proctype p%d() { byte x, y; %s } ", i, body)
 		}
@@ -338,5 +341,35 @@ func TestInput(t *testing.T) {
 		if _, e3 := Able(e.M, e.S); c.want != api.ErrInput && e3 != c.want {
 			t.Errorf("%d: error %d", i, e3)
 		}
+	}
+}
+
+// The process 0 receives, an escape is gone, a channel is full, and nothing is provided by the first expression.
+func TestFirstOnes(t *testing.T) {
+	e := first(t, "byte n; chan z = [0] of { byte }; active proctype r() { byte v; z?v; v } active proctype p() { z!7; 1 }")
+	e.Pid = 1
+	if got := told(t, e); got != "-1 0+0:-1 0" {
+		t.Errorf("got %q", got)
+	}
+	if s, _, err := goneFirst(t, e); err != api.OK || fmt.Sprint(s.Procs) != "[{0 1 1 [7]} {1 1 1 []}]" || s.Last != 1 {
+		t.Errorf("error %d, %v", err, s)
+	}
+	e = first(t, "byte n; chan z = [0] of { byte }; active proctype r() provided (n) { z?_ } active proctype p() { z!1 }")
+	e.Pid = 1
+	if got := told(t, e); got != "" {
+		t.Errorf("got %q", got)
+	}
+	e = first(t, "byte x = 1; active proctype p() { x = 5 unless { x = 7; x = 8 } }")
+	if s, _, err := goneFirst(t, e); err != api.OK || s.Globals[0] != 7 || s.Procs[0].Loc != 2 {
+		t.Errorf("error %d, %v", err, s)
+	}
+	e = first(t, "byte x = 1; active proctype p() { { x == 2 unless x == 3 } unless { x == 1 -> x = 7 } }")
+	if s, _, err := goneFirst(t, e); err != api.OK || s.Procs[0].Loc != 2 {
+		t.Errorf("error %d, %v", err, s)
+	}
+	e = first(t, "chan q = [1] of { byte }; active proctype p() { q!1 } active proctype r() { q?_ }")
+	e.S.Chans[0].Queue = []api.Message{{3}}
+	if got := told(t, e); got != "" {
+		t.Errorf("got %q", got)
 	}
 }

@@ -38,7 +38,7 @@ func TestEval(t *testing.T) {
 		"5": "5", "g": "2", "a[g]": "30", "a[3]": "!47", "a[-1]": "!47", "a[i]": "20", "b[i]": "0", "b[2]": "!47", "t[1].y[a[0]]": "!47", "t[1].y[1]": "0",
 		"-g": "-2", "!g": "0", "~g": "-3", "7 / 0": "!48", "7 % (g - 2)": "!48", "7 / g": "3", "big << 29": "-536870912",
 		"0 && 7 / 0": "0", "1 && 7 / 0": "!48", "1 || 7 / 0": "1", "0 || 7 / 0": "!48", "g && 5": "1", "g && 0": "0", "0 || 5": "1", "0 || 0": "0", "7 / 0 || 1": "!48",
-		"(g -> 5 : 7 / 0)": "5", "(0 -> 7 / 0 : 6)": "6", "(1 -> 7 / 0 : 6)": "!48", "a[9] + 7 / 0": "!47", "7 / 0 + a[9]": "!48", "-(7 / 0)": "!48",
+		"(g -> 5 : 7 / 0)": "5", "(0 -> 7 / 0 : 6)": "6", "(1 -> 7 / 0 : 6)": "!48", "a[9] + 7 / 0": "!47", "a[7 / 0]": "!48", "p[1]:l[7 / 0]": "!48", "q?[a[7], _]": "1", "q??[_, eval(a[7])]": "!47", "7 / 0 + a[9]": "!48", "-(7 / 0)": "!48",
 		"len(q)": "2", "full(q)": "1", "nfull(q)": "0", "empty(q)": "0", "nempty(q)": "1", "len(e)": "0", "full(e)": "0", "nfull(e)": "1", "empty(e)": "1", "nempty(e)": "0", "full(z)": "1", "nfull(z)": "0", "empty(z)": "1",
 		"len(none)": "!49", "full(none)": "!49", "none?[1]": "!49",
 		"q?[1, 2]": "1", "q?[3, 4]": "0", "q??[3, 4]": "1", "q??[3, 5]": "0", "q?[g, _]": "1", "q??[eval(g), _]": "0", "q??[_, eval(g + g)]": "1", "q?[1]": "!49", "q?[eval(7 / 0), _]": "!48", "e?[_]": "0", "z?[_]": "0",
@@ -90,7 +90,7 @@ func TestNp(t *testing.T) {
 func TestStore(t *testing.T) {
 	for x, want := range map[string]string{
 		"g": "-1 0", "a[g]": "-1 3", "b[1]": "0 2", "p[1]:l[0]": "1 1", "t[1].y[1]": "-1 15",
-		"5": "!42", "a[3]": "!47", "p[0]:w": "!52", "g + 1": "!42",
+		"5": "!42", "a[3]": "!47", "a[7 / 0]": "!48", "p[7 / 0]:w": "!48", "p[9]:w": "!52", "p[0]:w": "!52", "g + 1": "!42",
 	} {
 		e, at := env(t, x)
 		before := fmt.Sprint(e.S)
@@ -124,8 +124,8 @@ func TestStore(t *testing.T) {
 	}
 	e, at := env(t, "b[1]")
 	e.Pid = -1
-	if _, _, err := Slot(e, at); err != api.ErrInput {
-		t.Errorf("no process: error %d", err)
+	if pid, slot, err := Slot(e, at); err != api.ErrInput || pid != 0 || slot != 0 {
+		t.Errorf("no process: %d, %d, error %d", pid, slot, err)
 	}
 	// Another process's frame is too small for it, or another one's.
 	m, _, _ := compile.Compile("byte g; active proctype p() { g } active proctype r() { byte b[2]; b[1] }")
@@ -134,8 +134,11 @@ func TestStore(t *testing.T) {
 	if _, _, err := Slot(api.Env{M: m, S: s, Pid: 1}, x); err != api.OK {
 		t.Errorf("error %d", err)
 	}
-	if _, err := Eval(api.Env{M: m, S: s, Pid: 0}, x); err != api.ErrInput {
-		t.Errorf("error %d", err)
+	if v, err := Eval(api.Env{M: m, S: s, Pid: 0}, x); v != 0 || err != api.ErrInput {
+		t.Errorf("%d, error %d", v, err)
+	}
+	if pid, slot, err := Slot(api.Env{M: m, S: s, Pid: 0}, x); err != api.ErrInput || pid != 0 || slot != 0 {
+		t.Errorf("%d, %d, error %d", pid, slot, err)
 	}
 	beyond := m
 	beyond.Exprs = append(append([]api.Expr{}, m.Exprs...), api.Expr{Op: api.XVar, A: -1, B: -1, C: -1, V: api.Var{Slot: 1, Who: -1, Type: -1}})
@@ -166,18 +169,21 @@ func TestInput(t *testing.T) {
 	} {
 		e, x := good, at
 		c.change(&e, &x)
-		_, e1 := Eval(e, x)
-		_, _, e2 := Slot(e, x)
+		v, e1 := Eval(e, x)
+		pid, slot, e2 := Slot(e, x)
 		_, e3 := Store(e, x, 1)
-		_, e4 := Chan(e, x)
+		c4, e4 := Chan(e, x)
+		if v != 0 || pid != 0 || slot != 0 || c4 != 0 {
+			t.Errorf("%d: more beside an error", i)
+		}
 		if e1 != c.want || e2 != c.want || e3 != c.want || e4 != c.want {
 			t.Errorf("%d: errors %d %d %d %d", i, e1, e2, e3, e4)
 		}
 	}
 	m, _, _ := compile.Compile("proctype p() { 1 } init { run p() }")
 	s, _ := state.First(m)
-	if _, err := Eval(api.Env{M: m, S: s}, m.Procs[1].Locs[0].Out[0].S.A); err != api.ErrInput {
-		t.Errorf("run: error %d", err)
+	if v, err := Eval(api.Env{M: m, S: s}, m.Procs[1].Locs[0].Out[0].S.A); v != 0 || err != api.ErrInput {
+		t.Errorf("run: %d, error %d", v, err)
 	}
 }
 
@@ -199,5 +205,25 @@ func TestPrint(t *testing.T) {
 	}
 	if got := Print("%u %x %o %d", []int64{1<<32 + 7, -1 << 40, 8, -1 << 63}); got != "7 0 10 -9223372036854775808" {
 		t.Errorf("got %q", got)
+	}
+}
+
+// The first expression; the first process that is enabled; numbers fitted to a frame's own types.
+func TestFirst(t *testing.T) {
+	m, _, _ := compile.Compile("byte g = 4; active proctype r() { int big; g; enabled(0); big }")
+	s, _ := state.First(m)
+	e := api.Env{M: m, S: s, Able: []bool{true}}
+	if v, err := Eval(e, 0); v != 4 || err != api.OK {
+		t.Errorf("%d, error %d", v, err)
+	}
+	locs := m.Procs[0].Locs
+	if v, err := Eval(e, locs[1].Out[0].S.A); v != 1 || err != api.OK {
+		t.Errorf("%d, error %d", v, err)
+	}
+	if s, err := Store(e, locs[2].Out[0].S.A, 70000); err != api.OK || s.Procs[0].Frame[0] != 70000 {
+		t.Errorf("error %d, %v", err, s)
+	}
+	if s, err := Store(e, 0, 70000); err != api.OK || s.Globals[0] != 112 {
+		t.Errorf("error %d, %v", err, s)
 	}
 }

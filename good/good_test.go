@@ -370,6 +370,10 @@ func TestMost(t *testing.T) {
 	if e, part, place := Check(one); e != api.OK || part != 0 || place != 0 {
 		t.Errorf("one proctype: error %d, %d, %d", e, part, place)
 	}
+	never := api.Model{Claim: 0, Procs: []api.Proc{{Prio: 1, Provided: -1, Locs: []api.Loc{{Atomic: true}}}}}
+	if e, part, place := Check(never); e != api.ErrModel || part != 4 || place != 0 {
+		t.Errorf("a claim that is the first proctype: error %d, %d, %d", e, part, place)
+	}
 	one.Procs[0].Prio = 0
 	if e, part, place := Check(one); e != api.ErrModel || part != 4 || place != 0 {
 		t.Errorf("one proctype: error %d, %d, %d", e, part, place)

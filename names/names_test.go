@@ -60,6 +60,7 @@ func TestFind(t *testing.T) {
 		"proctype p() { { byte a; L: skip }; byte a } init { byte a; p[a]:a == p[1]@L; run p() }": "4:p:-1:0 4:init:-1:0 1:a:0:0 6:L:0:0 1:a:0:0 1:a:1:0 | 62=5 65=2 60=0 75=3 70=0 78=0",
 		"init { byte a[2]; a[a[1]] = 1 }":                                                         "4:init:-1:0 1:a:0:0 | 20=1 18=1",
 		"byte i; typedef T { byte a[2] } T t; init { t.a[i] = 1 }":                                "1:i:-1:0 3:T:-1:0 5:a:1:0 1:t:-1:0 4:init:-1:0 | 32=1 48=0 44=3",
+		"byte i, j; typedef T { byte a[2] } T t[2]; init { t[i].a[j] = 1 }":                       "1:i:-1:0 1:j:-1:0 3:T:-1:0 5:a:2:0 1:t:-1:0 4:init:-1:0 | 35=2 52=0 57=1 50=4",
 		"init { goto a; { a: skip } }":                                                            "4:init:-1:0 6:a:0:0 | 7=1",
 		"init { xr x; byte x }":                                                                   "error 11 at 10",
 	} {

@@ -28,6 +28,7 @@ func TestAdmits(t *testing.T) {
 		"active proctype p() { d_step { timeout; 1 } }":                      api.OK,
 		"active proctype p() { atomic { 1; 1 }; timeout }":                   api.ErrMode,
 		"active proctype p() { timeout } proctype q() { atomic { 1; 1 } }":   api.ErrMode,
+		"never { 1 } active proctype p() { 1 }":                              api.ErrMode,
 		"active proctype p() { 1 } never { 1 }":                              api.ErrMode,
 		"active proctype p() priority 2 { 1 } proctype q() { 1 }":            api.ErrMode,
 		"active proctype p() priority 2 { 1 } proctype q() priority 2 { 1 }": api.OK,

@@ -52,7 +52,7 @@ func check(t *testing.T, head, tail string, cases map[string]string) {
 
 func TestSteps(t *testing.T) {
 	eight, nine := strings.Repeat("{", 8), strings.Repeat("{", 9)
-	check(t, "byte x; chan q = [1] of { byte }; init { ", " }", map[string]string{
+	check(t, "byte x, w[2]; chan q = [1] of { byte }; init { ", " }", map[string]string{
 		"if :: else -> if :: else fi :: x fi":                   "",
 		"if :: if :: else fi :: 1 fi":                           "14 12",
 		"if :: x :: else fi":                                    "",
@@ -74,6 +74,11 @@ func TestSteps(t *testing.T) {
 		"if :: { x; if :: else fi } :: 1 fi":                    "",
 		"if :: for (x : 1 .. 2) { if :: else fi } :: 1 fi":      "",
 		"if :: byte y fi; if :: xr x :: else fi":                "",
+		"if :: L: if :: else fi :: 1 fi":                        "14 15",
+		"if :: if :: else fi unless x fi":                       "14 12",
+		"if :: x unless { if :: else fi } fi":                   "14 6",
+		"for (x in w) { break }":                                "",
+		"for (x in w) { d_step { x; break } }":                  "14 27",
 		"if :: L: x fi":                                         "14 6",
 		"if :: x; L: x fi":                                      "",
 		"if :: { L: x } fi":                                     "14 8",
@@ -162,6 +167,8 @@ func TestModules(t *testing.T) {
 		"active [17] proctype p() { 1 }":                                            "15 all",
 		"active [16] proctype p() { 1 } init { 1 }":                                 "15 all",
 		"chan c[32] = [0] of { byte }; init { 1 }":                                  "",
+		"chan c[31] = [0] of { byte }, d = [0] of { bit }; init { 1 }":              "",
+		"chan c[31] = [0] of { byte }, d[2] = [0] of { bit }; init { 1 }":           "15 all",
 		"chan c[33] = [0] of { byte }; init { 1 }":                                  "15 all",
 		"chan c[30] = [0] of { byte }; chan d, e[2] = [1] of { byte }; init { 1 }":  "",
 		"init { byte y; chan c[99] = [0] of { byte }; 1 }":                          "",
@@ -204,6 +211,9 @@ func TestOthers(t *testing.T) {
 			}
 		},
 		func(y *api.Layout) { y.Globals = nil },
+		func(y *api.Layout) { use(y, func(u *api.Use) { u.Scope++ }) }, func(y *api.Layout) { use(y, func(u *api.Use) { u.Type++ }) }, func(y *api.Layout) { use(y, func(u *api.Use) { u.Bits++ }) },
+		func(y *api.Layout) { use(y, func(u *api.Use) { u.Slot++ }) }, func(y *api.Layout) { use(y, func(u *api.Use) { u.Whole = !u.Whole }) }, func(y *api.Layout) { use(y, func(u *api.Use) { u.Len++ }) },
+		func(y *api.Layout) { use(y, func(u *api.Use) { u.Dims = []api.Index{{}} }) },
 		func(y *api.Layout) { y.Init = []int64{0, 0, 1} },
 		func(y *api.Layout) { y.Frames = nil },
 		func(y *api.Layout) { y.Inits = [][]int64{nil, nil, {4}, nil} },
@@ -220,4 +230,10 @@ func TestOthers(t *testing.T) {
 	if e, at := Check(nil, n, y); e != api.ErrTree || at != 0 {
 		t.Errorf("error %d", e)
 	}
+}
+
+// use changes the last use.
+func use(y *api.Layout, change func(u *api.Use)) {
+	y.Uses = slices.Clone(y.Uses)
+	change(&y.Uses[len(y.Uses)-1])
 }

@@ -188,3 +188,49 @@ func TestModel(t *testing.T) {
 		t.Error("Decode")
 	}
 }
+
+// As much as there may be; and a claim that is the first proctype.
+func TestMost(t *testing.T) {
+	m := model(t, "never { 1; 1 } byte x; chan q = [16] of { byte }; proctype p(byte a) { a } init { 1 }")
+	if m.Claim != 0 {
+		t.Fatalf("claim %d", m.Claim)
+	}
+	s, e := First(m)
+	if e != api.OK || s.Claim != 0 || len(s.Procs) != 1 || s.Procs[0].Type != 2 {
+		t.Fatalf("error %d, %v", e, s)
+	}
+	for len(s.Chans) < api.MaxChans {
+		s.Chans = append(s.Chans, api.Chan{})
+	}
+	for len(s.Procs) < api.MaxProcs {
+		p, _ := Begin(m, 1, []int64{int64(len(s.Procs))})
+		s.Procs = append(s.Procs, p)
+	}
+	for range api.MaxRoom {
+		s.Chans[3].Queue = append(s.Chans[3].Queue, api.Message{7})
+	}
+	for claim, want := range map[int]api.Errno{-1: api.ErrState, 0: api.OK, 2: api.OK, 3: api.ErrState} {
+		s.Claim = claim
+		text, e := Encode(m, s)
+		if e != want || Check(m, s) != want {
+			t.Errorf("claim at %d: error %d", claim, e)
+		}
+		if back, e := Decode(m, text); want == api.OK && (e != api.OK || !Same(back, s)) {
+			t.Errorf("error %d, %v", e, back)
+		}
+	}
+	s.Claim = 0
+	if _, e := Begin(m, 0, nil); e != api.ErrInput {
+		t.Errorf("a claim begins: error %d", e)
+	}
+	more := Copy(s)
+	more.Chans = append(more.Chans, api.Chan{})
+	if Check(m, more) != api.ErrState {
+		t.Error("33 channels")
+	}
+	more = Copy(s)
+	more.Chans[3].Queue = append(more.Chans[3].Queue, api.Message{7})
+	if Check(m, more) != api.ErrState {
+		t.Error("17 messages")
+	}
+}

@@ -100,6 +100,8 @@ func TestSteps(t *testing.T) {
 		"byte x; active proctype p() { d_step { x = 1; if :: x = 2 :: x = 3 fi; if :: 0 :: else fi; x = x + 5 }; 1 }":           "0:-1.0 [7] [4] 0 -1",
 		"byte x; active proctype p() { d_step { do :: x == 100 -> break :: else -> x++ od; x = 0 }; 1 }":                        "0:-1.1 !53",
 		"byte x; active proctype p() { d_step { do :: x == 99 -> break :: else -> x++ od; x = 7 }; 1 }":                         "0:-1.1 [7] [3] 0 -1",
+		"byte x; active proctype p() { d_step { do :: x == 99 -> break :: else -> x++ od; x = 7; x = 8 }; 1 }":                  "0:-1.1 [8] [5] 0 -1",
+		"byte x; active proctype p() { d_step { do :: x == 99 -> break :: else -> x++ od; x = 7; x = 8; x = 9 }; 1 }":           "0:-1.1 !53",
 		"byte x; active proctype p() { assert x; 1 } active proctype r() { x = 1 / x }":                                         "0:-1.0 !50; 1:-1.0 !48",
 		"byte x; chan z = [0] of { byte }; active proctype p() { z!5; 1 } active proctype r() { z?x; 1 }":                       "0:-1.0+1:-1.0 [5 1] [1 1] 0 -1",
 		"byte x; chan z = [0] of { byte }; active proctype p() { z!5; 1 } active proctype r() { atomic { z?x; 1 } }":            "0:-1.0+1:-1.0 [5 1] [1 1] 0 1",
@@ -172,5 +174,14 @@ func TestInput(t *testing.T) {
 		if e1 != c.want || e2 != c.want || l != nil || stuck {
 			t.Errorf("errors %d, %d", e1, e2)
 		}
+	}
+}
+
+// The process 0 goes alone, whatever the others could.
+func TestAloneFirst(t *testing.T) {
+	m, s := model(t, "byte x; active proctype p() { atomic { x = 1; x = 2 } } active proctype r() priority 9 { 1; 1 }")
+	s.Procs[0].Loc, s.Alone = 1, 0
+	if got := told(t, m, s); got != "0:-1.0 [2] [2 0] 0 -1" {
+		t.Errorf("got %s", got)
 	}
 }

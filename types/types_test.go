@@ -46,7 +46,7 @@ func TestOf(t *testing.T) {
 func TestConst(t *testing.T) {
 	for s, want := range map[string]string{
 		"3": "3", "m": "2", "-m": "-2", "!0": "1", "~0": "-1", "2 + 3 * m": "8", "7 / 2": "3", "7 / 0": "no", "7 % 0": "no",
-		"2 && 3": "1", "2 && 0": "0", "0 || 3": "1", "0 && x": "no", "1 || x": "no", "0 && (1 / 0)": "no", "(1 -> 2 : 3)": "2", "(0 -> 2 : 3)": "3", "(1 -> 2 : x)": "no", "(x -> 1 : 2)": "no",
+		"2 && 3": "1", "1 && 1": "1", "1 && 0": "0", "0 && 1": "0", "0 || 1": "1", "1 || 0": "1", "0 || 0": "0", "l": "1", "l && l": "1", "2 && 0": "0", "0 || 3": "1", "0 && x": "no", "1 || x": "no", "0 && (1 / 0)": "no", "(1 -> 2 : 3)": "2", "(0 -> 2 : 3)": "3", "(1 -> 2 : x)": "no", "(x -> 1 : 2)": "no",
 		"x": "no", "a[1]": "no", "_pid": "no", "1 << 31": "-2147483648", "len(c)": "no", "m == 2": "1",
 	} {
 		tree, n := read(t, "mtype = { l, m } byte x; byte a[2]; chan c; init { assert "+s+" }")
@@ -62,7 +62,18 @@ func TestConst(t *testing.T) {
 			t.Errorf("%s: %s", s, got)
 		}
 	}
-	tree, n := read(t, "init { 1 }")
+	tree, n := read(t, "mtype = { k } init { k[1] }")
+	if v, ok := Const(tree, n, len(tree)-5); v != 0 || ok {
+		t.Errorf("a number's name with an index: %d", v)
+	}
+	tree, n = read(t, "byte x = 5")
+	if v, ok := Const(tree, n, 1); v != 5 || !ok {
+		t.Errorf("%d", v)
+	}
+	if v, ok := Const(tree, n, 0); v != 0 || ok {
+		t.Errorf("node 0: %d", v)
+	}
+	tree, n = read(t, "init { 1 }")
 	for _, node := range []int{-1, len(tree), len(tree) - 1} {
 		if v, ok := Const(tree, n, node); v != 0 || ok {
 			t.Errorf("node %d: %d", node, v)
@@ -166,6 +177,11 @@ func TestWrong(t *testing.T) {
 		"typedef B { A b[2] } typedef A { byte a[100] }":                     "15 14",
 		"typedef A { byte a = 1 }":                                           "13 17",
 		"proctype p(byte a = 1) { 1 }":                                       "13 16",
+		"proctype p(byte a[1]) { 1 }":                                        "13 16",
+		"chan c = [1] of { bit, bit, bit, bit, bit, bit, bit, bit }":         "",
+		"byte a[1]; init { a = 1 }":                                          "13 18",
+		"typedef T { byte a } T t[1]; init { t.a = 1 }":                      "13 36",
+		"byte a[1], y; init { for (y in a) { 1 } }":                          "",
 		"proctype p(byte a[2]) { 1 }":                                        "13 16",
 		"typedef T { byte a } proctype p(T t) { 1 }":                         "13 34",
 		"typedef T { byte a } T t = 1":                                       "13 23",
@@ -223,6 +239,13 @@ func TestWrong(t *testing.T) {
 		"for (y in x[1].b) { 1 }": "",
 		"for (z in z) { 1 }":      "13 5",
 		"select (k : 1 .. 2)":     "13 8",
+		"xr k[1]":                 "13 3",
+		"xr k.a":                  "13 3",
+		"y?1":                     "13 0",
+		"k?1":                     "13 0",
+		"k!1":                     "13 0",
+		"k?[1]":                   "13 0",
+		"for (k in z) { 1 }":      "13 5",
 		"xr k, z, x, x[1]":        "",
 		"run q(1)":                "13 0",
 		"run q(1, 2)":             "",
@@ -265,5 +288,24 @@ func TestOthers(t *testing.T) {
 	}
 	if _, e, _ := Lay(nil, api.Names{}); e != api.ErrTree {
 		t.Errorf("error %d", e)
+	}
+}
+
+// The first symbol is a proctype, or a typedef.
+func TestFirstSymbol(t *testing.T) {
+	tree, n := read(t, "proctype p(byte a) { chan c = [0] of { bit }, d; byte e = 3; a = e } ")
+	y, e, _ := Lay(tree, n)
+	if got := fmt.Sprint(y.Frames[0], y.Inits[0], y.Globals, y.Init); e != api.OK || got != "[{8 false} {8 false} {8 false} {8 false}] [0 0 0 3] [] []" {
+		t.Errorf("error %d, %s", e, got)
+	}
+	for i, u := range y.Uses {
+		if tree[i].Kind == api.ERef && u.Scope != api.Local {
+			t.Errorf("%v", u)
+		}
+	}
+	tree, n = read(t, "typedef T { byte a; short b } T t[2]")
+	y, e, _ = Lay(tree, n)
+	if got := fmt.Sprint(y.Globals, y.Lays); e != api.OK || got != "[{8 false} {16 true} {8 false} {16 true}] [{0 0 0 0 0 0} {3 0 -1 0 0 1} {4 0 -1 0 1 1} {10 0 0 2 0 2}]" {
+		t.Errorf("error %d, %s", e, got)
 	}
 }

@@ -51,7 +51,7 @@ func TestTwo(t *testing.T) {
 		{api.XDiv, math.MinInt32, -1, math.MinInt32, 0}, {api.XMod, math.MinInt32, -1, 0, 0}, {api.XMul, 65536, 65536, 0, 0},
 		{api.XShl, 1, 31, math.MinInt32, 0}, {api.XShl, 1, 32, 0, 0}, {api.XShr, -8, 1, -4, 0}, {api.XShl, -8, -1, -4, 0}, {api.XShr, 1, -3, 8, 0},
 		{api.XShr, -8, 40, -1, 0}, {api.XShr, 8, 40, 0, 0}, {api.XShl, -8, -100, -1, 0}, {api.XShr, 1, -40, 0, 0}, {api.XShr, 1, math.MinInt32, 0, 0}, {api.XShl, -1, math.MinInt32, -1, 0},
-		{api.XLt, 1, 2, 1, 0}, {api.XLe, 2, 2, 1, 0}, {api.XGt, 2, 2, 0, 0}, {api.XGe, 2, 2, 1, 0}, {api.XEq, 1 << 32, 0, 1, 0}, {api.XNe, 1, 1, 0, 0}, {api.XLt, math.MaxUint32, 0, 1, 0},
+		{api.XLt, 1, 2, 1, 0}, {api.XLt, 2, 2, 0, 0}, {api.XGt, 3, 2, 1, 0}, {api.XGe, 1, 2, 0, 0}, {api.XLe, 3, 2, 0, 0}, {api.XLe, 2, 2, 1, 0}, {api.XGt, 2, 2, 0, 0}, {api.XGe, 2, 2, 1, 0}, {api.XEq, 1 << 32, 0, 1, 0}, {api.XNe, 1, 1, 0, 0}, {api.XLt, math.MaxUint32, 0, 1, 0},
 		{api.XAnd, 6, 3, 2, 0}, {api.XXor, 6, 3, 5, 0}, {api.XOr, 6, 3, 7, 0}, {api.XAdd, math.MaxInt32, 1, math.MinInt32, 0}, {api.XSub, math.MinInt32, 1, math.MaxInt32, 0},
 		{api.XBoth, 1, 1, 0, api.ErrInput}, {api.XEither, 1, 1, 0, api.ErrInput}, {api.XFlip, 1, 1, 0, api.ErrInput}, {0, 1, 1, 0, api.ErrInput}, {-6, 1, 0, 0, api.ErrInput},
 	} {
