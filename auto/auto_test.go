@@ -323,3 +323,24 @@ func TestWalk(t *testing.T) {
 		t.Errorf("error %d", e)
 	}
 }
+
+// The numbers of proctypes; fields that a kind doesn't name; channels that there are at first are global ones.
+func TestNumbers(t *testing.T) {
+	m := made(t, "init { chan c = [1] of { bit }; run q(1); run r(); q[0]@L; r[0]:v == 1; x = 1; skip } proctype q(byte a) { L: a } byte x; proctype r() { byte v; v }")
+	if m.Claim != -1 || len(m.Chans) != 0 || len(m.Shapes) != 1 {
+		t.Errorf("claim %d, channels %v", m.Claim, m.Chans)
+	}
+	var l []string
+	for _, loc := range m.Procs[0].Locs {
+		for _, w := range loc.Out {
+			l = append(l, fmt.Sprint(w.S, expr(m, w.S.A)))
+		}
+	}
+	want := "{9 0 -1 0 [] [] }l0|{1 2 -1 0 [] [] }39#1(1)|{1 3 -1 0 [] [] }39#2()|{1 5 -1 0 [] [] }38#1[0] [0]|{1 9 -1 0 [] [] }17(r0<0:2> 1)|{2 10 11 0 [] [] }g0|{8 -1 -1 0 [] [] }"
+	if got := strings.Join(l, "|"); got != want {
+		t.Errorf("got  %s\nwant %s", got, want)
+	}
+	if got, want := fmt.Sprint(m.Exprs[1], m.Exprs[2], m.Exprs[9], m.Exprs[10]), "{1 1 -1 -1 -1 {0 0 0 0 []} [] []} {39 1 -1 -1 -1 {0 0 0 0 []} [1] []} {17 0 7 8 -1 {0 0 0 0 []} [] []} {2 0 -1 -1 -1 {0 0 -1 -1 []} [] []}"; got != want {
+		t.Errorf("got  %s\nwant %s", got, want)
+	}
+}

@@ -81,7 +81,7 @@ func TestCheck(t *testing.T) {
 		o    api.Options
 		want api.Errno
 	}{
-		{m, options(2, true), api.OK}, {m, options(3, true), api.OK}, {api.Model{}, api.Options{}, api.ErrModel}, {m, api.Options{Mode: 2, States: 0, Depth: 1}, api.ErrInput}, {m, api.Options{Mode: 9, States: 1, Depth: 20001}, api.ErrInput},
+		{m, options(2, true), api.OK}, {m, options(3, true), api.OK}, {m, api.Options{Mode: 2, States: api.MaxStates, Depth: api.MaxDepth}, api.OK}, {m, api.Options{Mode: 2, States: 1, Depth: 1}, api.OK}, {m, api.Options{Mode: 2, States: api.MaxStates + 1, Depth: 1}, api.ErrInput}, {m, api.Options{Mode: 2, States: 1}, api.ErrInput}, {api.Model{}, api.Options{}, api.ErrModel}, {m, api.Options{Mode: 2, States: 0, Depth: 1}, api.ErrInput}, {m, api.Options{Mode: 9, States: 1, Depth: 20001}, api.ErrInput},
 		{m, options(1, false), api.ErrMode}, {m, options(4, false), api.ErrMode}, {m, api.Options{Mode: 2, States: 1, Depth: 1, Bfs: true}, api.ErrMode}, {m, api.Options{Mode: 2, States: 1, Depth: 1, Fair: true}, api.ErrMode}, {m, api.Options{Mode: 2, States: 1, Depth: 1, Free: true}, api.ErrMode},
 		{last, options(2, true), api.ErrMode}, {last, options(2, false), api.OK}, {never, options(2, false), api.OK}, {never, options(3, false), api.ErrMode}, {never, options(2, true), api.ErrMode},
 	} {
@@ -109,6 +109,7 @@ func TestSteps(t *testing.T) {
 		"byte x; active proctype p() { x == 1 }":                                 "[-1]",
 		"byte x; active proctype p() { if :: x = 1 :: 1 / x :: x = 2 fi }":       "[0 0]",
 		"byte x; active proctype p() { 1 / x }":                                  "[]",
+		"never { 0 } byte x; active proctype p() { x == 1 }":                     "[]",
 		"byte x; active proctype p() { x == 1 } never { 0 }":                     "[]",
 		"byte x; active proctype p() { x == 1 } never { 1 }":                     "[-1]",
 		"byte x; active proctype p() { x = 1 } never { if :: assert x :: 1 fi }": "[0]",
@@ -139,15 +140,19 @@ func TestSteps(t *testing.T) {
 // P21.3, P21.4.
 func TestFind(t *testing.T) {
 	for s, want := range map[string][2]int{ // accept, np
-		"bit x; active proctype A() { do :: x = 1; accept: x = 0 od }":                                                                                    {api.FoundError, api.FoundError},
-		"bit x; active proctype A() { do :: x = 1; x = 0 od }":                                                                                            {api.FoundClean, api.FoundError},
-		"bit x; active proctype A() { do :: x = 1; progress: x = 0 od }":                                                                                  {api.FoundClean, api.FoundClean},
-		"bit x; active proctype A() { do :: x = 1 - x od } active proctype B() { accept: x = 1 }":                                                         {api.FoundError, api.FoundError},
-		"active proctype A() { 1 }":                                                                                                                       {api.FoundClean, api.FoundError},
-		"active proctype A() { accept: 0 }":                                                                                                               {api.FoundError, api.FoundError},
-		"active proctype A() { accept: 1; progress: 0 }":                                                                                                  {api.FoundClean, api.FoundClean},
-		"byte x; active proctype A() { accept: x = 1; do :: x = 2; x = 3 od }":                                                                            {api.FoundClean, api.FoundError},
-		"byte x; active proctype A() { accept: 1 / x }":                                                                                                   {api.FoundClean, api.FoundClean},
+		"bit x; active proctype A() { do :: x = 1; accept: x = 0 od }":                                                 {api.FoundError, api.FoundError},
+		"bit x; active proctype A() { do :: x = 1; x = 0 od }":                                                         {api.FoundClean, api.FoundError},
+		"bit x; active proctype A() { do :: x = 1; progress: x = 0 od }":                                               {api.FoundClean, api.FoundClean},
+		"bit x; active proctype A() { do :: x = 1 - x od } active proctype B() { accept: x = 1 }":                      {api.FoundError, api.FoundError},
+		"byte x; active proctype A() { do :: x = 1; accept: x = 2; x = 3; x = 0 od }":                                  {api.FoundError, api.FoundError},
+		"byte x; active proctype A() { if :: x = 1; x == 9 :: x = 2; do :: x = 2; accept: x = 3 od fi }":               {api.FoundError, api.FoundError},
+		"byte x; active proctype A() { do :: x = 1; accept: if :: x = 2; x == 9 :: x = 3; x = 0 fi od }":               {api.FoundError, api.FoundError},
+		"byte x; active proctype A() { if :: x = 1; progress: x == 9 :: x = 2; do :: x = 3 :: x = 4; L: x = 5 od fi }": {api.FoundClean, api.FoundError},
+		"active proctype A() { 1 }":                                            {api.FoundClean, api.FoundError},
+		"active proctype A() { accept: 0 }":                                    {api.FoundError, api.FoundError},
+		"active proctype A() { accept: 1; progress: 0 }":                       {api.FoundClean, api.FoundClean},
+		"byte x; active proctype A() { accept: x = 1; do :: x = 2; x = 3 od }": {api.FoundClean, api.FoundError},
+		"byte x; active proctype A() { accept: 1 / x }":                        {api.FoundClean, api.FoundClean},
 		"byte x; active proctype A() { do :: x < 5 -> x++ :: x == 5 -> x = 2 od } active proctype B() { x == 4; accept: x == 1 }":                         {api.FoundError, api.FoundError},
 		"byte x; active proctype A() { do :: if :: x = 1 :: x = 2; progress: x = 3 fi od }":                                                               {api.FoundClean, api.FoundError},
 		"byte x; active proctype A() { progress: do :: x = 1 :: x = 2 od }":                                                                               {api.FoundClean, api.FoundClean},

@@ -128,17 +128,19 @@ func TestIs(t *testing.T) {
 // P22.4, P22.5.
 func TestFind(t *testing.T) {
 	for s, want := range map[string][2]int{ // accept, np
-		"bit x; active proctype A() { do :: x = 1 - x od } active proctype B() { accept: x = 1 }":                                                    {api.FoundClean, api.FoundError},
-		"bit x; active proctype A() { do :: x = 1; accept: x = 0 od }":                                                                               {api.FoundError, api.FoundError},
-		"bit x; active proctype A() { do :: x = 1; x = 0 od }":                                                                                       {api.FoundClean, api.FoundError},
-		"bit x; active proctype A() { do :: x = 1; accept: x = 0 od } active proctype B() { x = 1 }":                                                 {api.FoundError, api.FoundError},
-		"bit x; active proctype A() { do :: x = 1; x == 1; accept: x = 0 :: x == 2 od } active proctype B() { do :: x == 0 -> progress: x == 0 od }": {api.FoundError, api.FoundError},
-		"bit x; active proctype A() { do :: x = 1 - x od } active proctype B() { do :: x = 0; progress: x = 1 od }":                                  {api.FoundClean, api.FoundClean},
-		"bit x; active proctype A() { do :: x = 1 - x od } active proctype B() { do :: x -> progress: x = x od }":                                    {api.FoundClean, api.FoundError},
-		"bit x; active [3] proctype A() { do :: x = 1 - x; accept: x = x od }":                                                                       {api.FoundError, api.FoundError},
-		"bit x; active proctype A() { accept: 0 }":                                                                                                   {api.FoundError, api.FoundError},
-		"bit x, y; active proctype A() { do :: y == 0 -> x = 1 - x od } active proctype B() { accept: x == 2 } active proctype C() { y = 1; 0 }":     {api.FoundError, api.FoundError},
-		"bit x, y; active proctype A() { do :: y == 0 -> accept: x = 1 - x od } active proctype C() { y = 1; 0 }":                                    {api.FoundClean, api.FoundError},
+		"bit x; active proctype A() { do :: x = 1 - x od } active proctype B() { accept: x = 1 }":                                                                                                          {api.FoundClean, api.FoundError},
+		"bit x; active proctype A() { do :: x = 1; accept: x = 0 od }":                                                                                                                                     {api.FoundError, api.FoundError},
+		"bit x; active proctype A() { do :: x = 1; x = 0 od }":                                                                                                                                             {api.FoundClean, api.FoundError},
+		"bit x; active proctype A() { do :: x = 1; accept: x = 0 od } active proctype B() { x = 1 }":                                                                                                       {api.FoundError, api.FoundError},
+		"bit x; active proctype A() { do :: x = 1; x == 1; accept: x = 0 :: x == 2 od } active proctype B() { do :: x == 0 -> progress: x == 0 od }":                                                       {api.FoundError, api.FoundError},
+		"bit x; active proctype A() { do :: x = 1 - x od } active proctype B() { do :: x = 0; progress: x = 1 od }":                                                                                        {api.FoundClean, api.FoundClean},
+		"bit x; active proctype A() { do :: x = 1 - x od } active proctype B() { do :: x -> progress: x = x od }":                                                                                          {api.FoundClean, api.FoundError},
+		"bit x; active [3] proctype A() { do :: x = 1 - x; accept: x = x od }":                                                                                                                             {api.FoundError, api.FoundError},
+		"byte x; active proctype A() { do :: x = 1; x = 2; accept: x = 0 :: goto accept2 od; accept2: x = 5; 0 }":                                                                                          {api.FoundError, api.FoundError},
+		"byte x; active proctype A() { do :: x = 1; if :: x = 2; if :: x = 3; if :: x = 4; accept: x = 0 :: goto accept2 fi :: goto accept2 fi :: goto accept2 fi :: goto accept2 od; accept2: x = 5; 0 }": {api.FoundError, api.FoundError},
+		"bit x; active proctype A() { accept: 0 }":                                                                                                                                                         {api.FoundError, api.FoundError},
+		"bit x, y; active proctype A() { do :: y == 0 -> x = 1 - x od } active proctype B() { accept: x == 2 } active proctype C() { y = 1; 0 }":                                                           {api.FoundError, api.FoundError},
+		"bit x, y; active proctype A() { do :: y == 0 -> accept: x = 1 - x od } active proctype C() { y = 1; 0 }":                                                                                          {api.FoundClean, api.FoundError},
 	} {
 		m := model(t, s)
 		for i, mode := range []int{api.ModeAccept, api.ModeNp} {

@@ -100,7 +100,7 @@ func TestAlone(t *testing.T) {
 	if got, e := Alone(m, s, l); fmt.Sprint(got) != "[0 3 4]" || e != api.OK {
 		t.Errorf("error %d, %v", e, got)
 	}
-	if got, _ := Alone(m, s, append([]api.Next{{Move: api.Move{Pid: -1}}, {Move: api.Move{Pid: 99}}}, l[len(l)-1])); fmt.Sprint(got) != "[4]" {
+	if got, _ := Alone(m, s, append([]api.Next{{Move: api.Move{Pid: -1}}, {Move: api.Move{Pid: 5}}, {Move: api.Move{Pid: 99}}}, l[len(l)-1])); fmt.Sprint(got) != "[4]" {
 		t.Errorf("got %v", got)
 	}
 	if got, _ := Alone(m, s, nil); len(got) != 0 {

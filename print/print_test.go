@@ -230,3 +230,23 @@ func TestSize(t *testing.T) {
 		t.Errorf("error %d", e)
 	}
 }
+
+// Brackets stand just where the tree would be another one without them: all pairs of operators.
+func TestBrackets(t *testing.T) {
+	ops := []string{"||", "&&", "|", "^", "&", "==", "!=", "<", "<=", ">", ">=", "<<", ">>", "+", "-", "*", "/", "%"}
+	for _, x := range ops {
+		for _, y := range ops {
+			for _, s := range []string{"(a " + x + " b) " + y + " c", "a " + x + " (b " + y + " c)"} {
+				tree := read(t, "init { assert "+s+" }")
+				bare := strings.NewReplacer("(", "", ")", "").Replace(s)
+				want := s
+				if slices.EqualFunc(tree, read(t, "init { assert "+bare+" }"), alike) {
+					want = bare
+				}
+				if got, e := Expr(tree, len(tree)-5); e != api.OK || got != want {
+					t.Errorf("%s: error %d, got %s, want %s", s, e, got, want)
+				}
+			}
+		}
+	}
+}

@@ -327,3 +327,38 @@ func TestRead(t *testing.T) {
 		}
 	}
 }
+
+// How much each operator binds: all pairs.
+func TestBinding(t *testing.T) {
+	levels := [][]string{{"||"}, {"&&"}, {"|"}, {"^"}, {"&"}, {"==", "!="}, {"<", "<=", ">", ">="}, {"<<", ">>"}, {"+", "-"}, {"*", "/", "%"}}
+	ops := map[string]int{"||": api.XEither, "&&": api.XBoth, "|": api.XOr, "^": api.XXor, "&": api.XAnd, "==": api.XEq, "!=": api.XNe, "<": api.XLt, "<=": api.XLe, ">": api.XGt, ">=": api.XGe, "<<": api.XShl, ">>": api.XShr, "+": api.XAdd, "-": api.XSub, "*": api.XMul, "/": api.XDiv, "%": api.XMod}
+	for i, first := range levels {
+		for j, second := range levels {
+			for _, x := range first {
+				for _, y := range second {
+					want := fmt.Sprintf("bin:%d[bin:%d[ref:a ref:b] ref:c]", ops[y], ops[x])
+					if j > i {
+						want = fmt.Sprintf("bin:%d[ref:a bin:%d[ref:b ref:c]]", ops[x], ops[y])
+					}
+					if got := told("init { assert a " + x + " b " + y + " c }"); got != "all[init[head seq[assert["+want+"]]]]" {
+						t.Errorf("a %s b %s c: got %s", x, y, got)
+					}
+				}
+			}
+		}
+	}
+}
+
+// The least and the greatest numbers that may stand there.
+func TestNumbers(t *testing.T) {
+	for _, s := range []string{"active [1] proctype p() { 1 }", "active [255] proctype p() { 1 }", "proctype p() priority 1 { 1 }", "proctype p() priority 255 { 1 }", "init priority 1 { 1 }", "byte x[1]; unsigned y : 1; chan c = [0] of { byte }"} {
+		if got := told(s); strings.HasPrefix(got, "error") {
+			t.Errorf("%s: %s", s, got)
+		}
+	}
+	for s, at := range map[string]int{"init priority 0 { 1 }": 14, "init priority 256 { 1 }": 14} {
+		if got := told(s); got != wrong(api.ErrSyntax, at) {
+			t.Errorf("%s: %s", s, got)
+		}
+	}
+}

@@ -181,6 +181,11 @@ func TestText(t *testing.T) {
 	if fmt.Sprint(again) != fmt.Sprint(f) || e != api.OK || at != 0 {
 		t.Errorf("error %d, %v", e, again)
 	}
+	if text, e := Print(api.Found{Kind: api.FoundReject, Err: 9, At: 3, Cycle: -1}); text != "found 4 0 9 3 0 0\n" || e != api.OK {
+		t.Errorf("error %d, %s", e, text)
+	} else if f, e, _ := Parse(text); e != api.OK || f.Kind != api.FoundReject || f.At != 3 || f.Cycle != -1 {
+		t.Errorf("error %d, %v", e, f)
+	}
 	if text, _ := Print(api.Found{Kind: 1, Cycle: -1, States: 9, Steps: 12}); text != "found 1 0 0 0 9 12\n" {
 		t.Errorf("%s", text)
 	}
@@ -212,5 +217,27 @@ func TestWrong(t *testing.T) {
 		if e != api.ErrTrail || got != at || f.Kind != 0 || f.Trail != nil || f.Cycle != 0 {
 			t.Errorf("%q: error %d at %d, want %d", s, e, got, at)
 		}
+	}
+}
+
+// Errors that are none: a move that is gone, one that can't be; and a claim that is the first proctype.
+func TestRunErrors(t *testing.T) {
+	m := model(t, "active proctype A() { skip; assert 0 }")
+	o := api.Options{Mode: api.ModeSafety}
+	for i, c := range []struct {
+		f    api.Found
+		want api.Errno
+	}{
+		{api.Found{What: api.WhatRun, Trail: []api.Move{move(0, 0)}}, api.ErrTrail}, {api.Found{What: api.WhatRun, Err: api.ErrTrail, Trail: []api.Move{move(0, 7)}}, api.ErrTrail}, {api.Found{What: api.WhatRun, Err: api.ErrAssert, Trail: []api.Move{move(0, 0), move(0, 0)}}, api.OK},
+		{api.Found{What: api.WhatRun, Err: api.ErrDivide, Trail: []api.Move{move(0, 0), move(0, 0)}}, api.ErrTrail}, {api.Found{What: api.WhatRun, Err: api.ErrAssert, Trail: []api.Move{move(0, 0), move(0, 0), move(0, 0)}}, api.ErrTrail}, {api.Found{What: api.WhatEnd, Trail: []api.Move{move(0, 0), move(0, 0)}}, api.ErrTrail}, {api.Found{What: api.WhatEnd, Trail: []api.Move{move(0, 0)}}, api.ErrTrail}, {api.Found{What: api.WhatClaim, Trail: []api.Move{move(0, 0)}}, api.ErrTrail}, {api.Found{What: 0}, api.ErrTrail}, {api.Found{What: api.WhatCycle}, api.ErrTrail},
+	} {
+		c.f.Kind, c.f.Cycle = api.FoundError, -1
+		if e := Check(m, o, c.f); e != c.want {
+			t.Errorf("%d: error %d", i, e)
+		}
+	}
+	m = model(t, "never { 0 } active proctype A() { 0 }")
+	if _, e, _ := Replay(m, []api.Move{move(-1, -1)}); e != api.ErrTrail {
+		t.Errorf("error %d", e)
 	}
 }
