@@ -78,6 +78,7 @@ func TestExpr(t *testing.T) {
 		"(a->run p(P[1]:d):e)":            "(a -> run p(P[1]:d) : e)",
 		"(a->q?[eval(P[1]:d)]:e)":         "(a -> q?[eval(P[1]:d)] : e)",
 		"(a->enabled(P[1]:d):e)":          "(a -> enabled(P[1]:d) : e)",
+		"(a->x[1]+(P[1]:b):c)":            "(a -> x[1] + (P[1]:b) : c)",
 		"P[a+1]@l":                        "P[a + 1]@l",
 		"run p()+run q(1,a)":              "run p() + run q(1, a)",
 		"len(q)+full(q)+empty(q)+nfull(q)+nempty(q[1])": "len(q) + full(q) + empty(q) + nfull(q) + nempty(q[1])",
@@ -248,5 +249,43 @@ func TestBrackets(t *testing.T) {
 				}
 			}
 		}
+	}
+}
+
+// As many bytes and nodes as there may be, and one more.
+func TestMost(t *testing.T) {
+	steps := func(names ...string) api.Tree {
+		tree := api.Tree{{Kind: api.MHead}}
+		var seq []int
+		for _, name := range names {
+			tree = append(tree, api.Node{Kind: api.ERef, Text: name}, api.Node{Kind: api.PExpr, Kids: []int{len(tree)}})
+			seq = append(seq, len(tree)-1)
+		}
+		tree = append(tree, api.Node{Kind: api.DSeq, Kids: seq})
+		tree = append(tree, api.Node{Kind: api.MInit, Kids: []int{0, len(tree) - 1}})
+		return append(tree, api.Node{Kind: api.MAll, Kids: []int{len(tree) - 1}})
+	}
+	long := slices.Repeat([]string{strings.Repeat("n", 32)}, 1820)
+	if text, e := Text(steps(append(long, "abc")...)); e != api.OK || len(text) != api.MaxSource {
+		t.Errorf("error %d, %d bytes", e, len(text))
+	}
+	if text, e := Text(steps(append(long, "abcd")...)); e != api.ErrSize || text != "" {
+		t.Errorf("error %d, %d bytes", e, len(text))
+	}
+	most := slices.Repeat([]string{"a"}, (api.MaxNodes-4)/2)
+	if tree := steps(most...); len(tree) != api.MaxNodes {
+		t.Errorf("%d nodes", len(tree))
+	} else if _, e := Text(tree); e != api.OK {
+		t.Errorf("error %d", e)
+	}
+	if _, e := Text(steps(append(most, "a")...)); e != api.ErrTree {
+		t.Errorf("error %d", e)
+	}
+	tree := read(t, "never { x; run p() }")
+	if got, e := Expr(tree, 0); got != "x" || e != api.OK {
+		t.Errorf("error %d, %s", e, got)
+	}
+	if got, e := Expr(tree, 2); got != "run p()" || e != api.OK {
+		t.Errorf("error %d, %s", e, got)
 	}
 }

@@ -362,3 +362,36 @@ func TestNumbers(t *testing.T) {
 		}
 	}
 }
+
+// No word is a name.
+func TestWords(t *testing.T) {
+	words := "active assert atomic bit bool break byte chan d_step do else empty enabled eval false fi for full goto hidden if in init inline int len local mtype nempty never nfull np_ od of pc_value pid printf printm priority proctype provided run select short show skip timeout true typedef unless unsigned xr xs _ _last _nr_pr _pid"
+	for _, w := range strings.Fields(words) {
+		l := []api.Token{{Kind: api.TName, Text: "never"}, {Kind: api.TMark, Text: "{"}, {Kind: api.TName, Text: "goto"}, {Kind: api.TName, Text: w, At: 7}, {Kind: api.TMark, Text: "}"}, {Kind: api.TEnd}}
+		if _, e, at := Parse(l); e != api.ErrSyntax || at != 7 {
+			t.Errorf("%s: error %d at %d", w, e, at)
+		}
+		l[3].Text += "x"
+		if _, e, _ := Parse(l); e != api.OK {
+			t.Errorf("%sx: error %d", w, e)
+		}
+	}
+}
+
+// Behind a } each kind of step may stand without anything between.
+func TestBehindBrace(t *testing.T) {
+	for _, s := range []string{"if :: 1 fi", "do :: 1 od", "for (x : 1 .. 2) { 1 }", "select (x : 1 .. 2)", "atomic { 1 }", "d_step { 1 }", "{ 1 }", "else", "break", "goto a", "printf(\"a\")", "printm(1)", "assert 1", "skip", "true", "false", "run p()", "timeout", "np_", "_pid", "_last", "_nr_pr", "enabled(1)", "pc_value(1)", "len(q)", "full(q)", "empty(q)", "nfull(q)", "nempty(q)", "a", "a: 1", "a = 1", "a!1", "-1", "!a", "~a", "(1)", "5", "byte y", "hidden byte y", "show byte y", "local T y", "T y", "chan y", "mtype y", "xr a", "xs a"} {
+		with, without := told("init { {1}; "+s+" }"), told("init { {1} "+s+" }")
+		if with != without || strings.HasPrefix(with, "error") {
+			t.Errorf("%s: %s and %s", s, with, without)
+		}
+		if got := told("init { 1 " + s + " }"); !strings.HasPrefix(got, "error") && s != "-1" && s != "(1)" {
+			t.Errorf("%s behind a step without a brace: %s", s, got)
+		}
+	}
+	for _, s := range []string{")", "]", "fi", "od", "::", "unless", "of", "eval(1)", "_", "in", "init", "never", "&& 1", "\"x\"", ","} {
+		if got := told("init { {1} " + s + " }"); !strings.HasPrefix(got, "error") {
+			t.Errorf("%s: %s", s, got)
+		}
+	}
+}
